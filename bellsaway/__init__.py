@@ -1,0 +1,1 @@
+"""Bellsaway: a house of bells for hands that are away."""
