@@ -8,3 +8,7 @@ def is_whole(thing):
 
 def is_whole_between(thing, least, most):
     return is_whole(thing) and least <= thing and thing <= most
+
+
+def is_whole_from(thing, least):
+    return is_whole(thing) and least <= thing

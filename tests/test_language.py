@@ -29,6 +29,12 @@ WORDS = re.compile(
     r"namedtuple|NamedTuple|TypedDict|TYPE_CHECKING|abstractmethod)\b|dataclass|overload|contextmanager"
 )
 NEVER = {"register", "mro", "elements", "open", "input", "version_info", "with_traceback", "add_note", "format"}
+METHODS = set(
+    "append clear copy count endswith extend find get index insert isalnum isalpha isdigit islower isspace isupper "
+    "items join keys ljust lower lstrip partition pop remove replace reverse rfind rjust rpartition rsplit rstrip "
+    "setdefault split splitlines startswith strip update upper values zfill bit_length".split()
+)
+PYTHONS_OWN = {name for thing in ("", 0, [], (), {}, set(), b"") for name in dir(thing)}
 
 
 def bound_names(tree):
@@ -48,6 +54,20 @@ def bound_names(tree):
 def each_file():
     read = [(path.name, path.read_text(encoding="utf-8")) for path in FILES]
     return [(name, text, ast.parse(text, name)) for name, text in read]
+
+
+def drawn_from(tree):
+    return [node.module for node in tree.body if isinstance(node, ast.ImportFrom)]
+
+
+def own_methods():
+    classes = [part for file, text, tree in each_file() for part in tree.body if isinstance(part, ast.ClassDef)]
+    return [part.name for class_ in classes for part in class_.body if isinstance(part, ast.FunctionDef)]
+
+
+def own_values():
+    nodes = [node for file, text, tree in each_file() for node in ast.walk(tree)]
+    return [node.attr for node in nodes if isinstance(node, ast.Attribute) and isinstance(node.ctx, ast.Store)]
 
 
 class Language(unittest.TestCase):
@@ -131,6 +151,36 @@ class Language(unittest.TestCase):
                 if isinstance(node, ast.Attribute):
                     self.assertNotIn(node.attr, NEVER)
                     self.assertTrue(node.attr in TWO_UNDERSCORES or not node.attr.startswith("_"), (file, node.lineno))
+
+    def test_methods_and_values(self):
+        methods = set(own_methods())
+        values = set(own_values())
+        self.assertEqual(methods & values, set())
+        self.assertEqual((methods - METHODS - TWO_UNDERSCORES - {"add", "discard"}) & PYTHONS_OWN, set())
+        self.assertEqual(values & PYTHONS_OWN, set())
+        for file, text, tree in each_file():
+            called = [node.func for node in ast.walk(tree) if isinstance(node, ast.Call)]
+            for node in ast.walk(tree):
+                if isinstance(node, ast.Attribute):
+                    self.assertIn(node.attr, METHODS | methods if node in called else values, (file, node.lineno))
+
+    def test_no_two_files_draw_from_one_another(self):
+        draws = {"bellsaway." + file[:-3]: drawn_from(tree) for file, text, tree in each_file()}
+        ended = set()
+        while set(draws) - ended:
+            free = {file for file in draws if file not in ended and set(draws[file]) <= ended}
+            self.assertTrue(free, sorted(set(draws) - ended))
+            ended |= free
+
+    def test_a_name_of_a_files_top_is_bound_once_and_no_local_bears_it(self):
+        for file, text, tree in each_file():
+            tops = [part.name for part in tree.body if isinstance(part, (ast.FunctionDef, ast.ClassDef))]
+            tops += [part.targets[0].id for part in tree.body if isinstance(part, ast.Assign)]
+            tops += [alias.name for part in tree.body if isinstance(part, ast.ImportFrom) for alias in part.names]
+            self.assertEqual(len(tops), len(set(tops)), file)
+            for part in tree.body:
+                inner = list(bound_names(part)) if isinstance(part, (ast.FunctionDef, ast.ClassDef)) else []
+                self.assertEqual(set(inner[1:]) & set(tops), set(), file)
 
     def test_is_stands_beside_none_and_truths_alone(self):
         for file, text, tree in each_file():

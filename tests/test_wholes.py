@@ -2,7 +2,7 @@
 
 import unittest
 
-from bellsaway.wholes import is_whole, is_whole_between
+from bellsaway.wholes import is_whole, is_whole_between, is_whole_from
 
 OTHERS = (True, False, None, "", "1", [], [1], (), (1,), {}, {1: 1}, object())
 
@@ -25,6 +25,15 @@ class Wholes(unittest.TestCase):
         for thing in OTHERS:
             with self.subTest(thing=thing):
                 self.assertIs(is_whole_between(thing, -9, 9), False)
+
+    def test_from_takes_its_bound_in(self):
+        self.assertEqual([number for number in range(-5, 6) if is_whole_from(number, 3)], [3, 4, 5])
+        self.assertIs(is_whole_from(10 ** 60, 0), True)
+
+    def test_truths_and_others_are_from_nothing(self):
+        for thing in OTHERS:
+            with self.subTest(thing=thing):
+                self.assertIs(is_whole_from(thing, -9), False)
 
 
 if __name__ == "__main__":
