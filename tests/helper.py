@@ -1,4 +1,4 @@
-"""What several tests share: things of many kinds, refusals, fields, and fits by a plain reckoning of their own.
+"""What several tests share: things of many kinds, refusals, fields; fits, lines and wishes by a plain reckoning.
 
 A shape is a fit as plain tuples: ("any",), ("kind", names), ("place", names), ("least", weight), ("not", shape),
 ("both", shapes), ("either", shapes).
@@ -7,6 +7,8 @@ A shape is a fit as plain tuples: ("any",), ("kind", names), ("place", names), (
 import unittest
 
 from bellsaway import errors, fits
+from bellsaway.ways import Day, Hour, Never, Now
+from bellsaway.wishes import Line, Raised, Wishes
 
 THINGS = (
     True, False, None, "", " ", "fire", "Fire", "a b", "abcdefghi", "fire\n", "1", "any", 0, 1, -1, 7, 10 ** 13,
@@ -17,6 +19,11 @@ REFUSALS = (
     errors.NoClock, errors.NoHappening, errors.NoFit, errors.NoWish, errors.NoRoad, errors.NoTime, errors.NoRow,
     errors.Backward, errors.NoNumber, errors.Fallen, errors.NoBook, errors.NoText,
 )
+WORDS = (
+    "any", "kind", "place", "weight", "not", "by", "sure", "raise", "zone", "quiet", "now", "hour", "day", "never",
+    "a", "abcdefgh",
+)
+NUMBERS = (0, 1, 9, 10, 11, 100, 999999, 10 ** 59, 10 ** 60 - 1)
 LETTERS = "abcdefghijklmnopqrstuvwxyz"
 NO_NAMES = (
     "", " ", "A", "Fire", "firE", "fire1", "1", "a b", " a", "a ", "a\n", "\n", "a-b", "a_b", "a.b", "{", "`", "@",
@@ -154,3 +161,83 @@ def any_shape(chance, deep, names=("a", "b", "fire"), weights=(0, 1, 2, 5)):
         return (word, any_shape(chance, deep - 1, names, weights))
     parts = chance.choice((2, 2, 3))
     return (word, tuple(any_shape(chance, deep - 1, names, weights) for part in range(parts)))
+
+
+def taken_apart(thing):
+    """Classes and fields all the way down, to lay one thing beside another."""
+    if type(thing).__module__.startswith("bellsaway."):
+        return (type(thing), [(name, taken_apart(value)) for name, value in vars(thing).items()])
+    if type(thing) in (list, tuple):
+        return (type(thing), [taken_apart(part) for part in thing])
+    return (type(thing), thing)
+
+
+def text_of(shape):
+    word = shape[0]
+    if word in ("kind", "place"):
+        return "{} {}".format(word, " ".join(shape[1]))
+    if word == "least":
+        return "weight {}".format(shape[1])
+    if word == "not":
+        return "not {}".format(text_of(shape[1]))
+    if word in ("both", "either"):
+        sign = {"both": " & ", "either": " | "}[word]
+        return "( {} )".format(sign.join(text_of(part) for part in shape[1]))
+    return "any"
+
+
+def any_way(chance):
+    return chance.choice((("now",), ("hour", chance.choice((0, 5, 59))), ("day", chance.choice((0, 480, 1439)))))
+
+
+def any_line(chance):
+    """A line as plain parts: shape, way, roads, sure, raised."""
+    shape = any_shape(chance, chance.randint(0, 3), WORDS[:5], NUMBERS)
+    if chance.random() < 0.2:
+        return (shape, ("never",), [], False, None)
+    raised = (chance.choice(NUMBERS[1:]), chance.choice(NUMBERS), chance.choice(WORDS + (None, None)))
+    roads = chance.sample(WORDS, chance.randint(1, 8))
+    return (shape, any_way(chance), roads, chance.random() < 0.5, chance.choice((raised, None)))
+
+
+def any_wishes(chance):
+    """Wishes as plain parts: zone, quiet hours, wake, lines."""
+    quiet = chance.choice((None, (0, 1439), (1439, 0), (1320, 420)))
+    wake = None if quiet is None else chance.choice((None,) + NUMBERS)
+    zone = chance.choice((-1439, -60, -1, 0, 1, 330, 1439))
+    return (zone, quiet, wake, [any_line(chance) for number in range(chance.choice((0, 1, 2, 5)))])
+
+
+def made_way(way):
+    return {"now": Now, "hour": Hour, "day": Day, "never": Never}[way[0]](*way[1:])
+
+
+def made_line(parts):
+    shape, way, roads, sure, raised = parts
+    return Line(made(shape), made_way(way), list(roads), sure, None if raised is None else Raised(*raised))
+
+
+def made_wishes(parts):
+    return Wishes(parts[0], parts[1], parts[2], [made_line(line) for line in parts[3]])
+
+
+def line_text(parts):
+    shape, way, roads, sure, raised = parts
+    text = "{} : {}".format(text_of(shape), " ".join(map(str, way)))
+    if roads:
+        text += " by {} {}".format(len(roads), " ".join(roads))
+    if sure:
+        text += " sure"
+    if raised:
+        text += " raise " + " ".join(str(part) for part in raised if part is not None)
+    return text
+
+
+def wishes_text(parts):
+    zone, quiet, wake, lines = parts
+    text = "zone {}".format(zone)
+    if quiet:
+        text += " ; quiet {} {}".format(*quiet)
+    if wake is not None:
+        text += " {}".format(wake)
+    return text + "".join(" ; " + line_text(line) for line in lines)

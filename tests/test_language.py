@@ -101,6 +101,8 @@ class Language(unittest.TestCase):
                     self.assertEqual(node.orelse, [], (file, node.lineno))
                 if isinstance(node, ast.Try):
                     self.assertEqual(node.finalbody, [], (file, node.lineno))
+                if isinstance(node, ast.FormattedValue):
+                    self.assertIsInstance(node.value, ast.Name, (file, node.lineno))
                 if isinstance(node, ast.Constant):
                     self.assertIn(type(node.value), (int, str, bool, type(None)), (file, node.lineno))
 

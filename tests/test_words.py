@@ -1,9 +1,10 @@
-"""Lists of unlike names, and names that are not among others (point 2)."""
+"""Lists of unlike names, names that are not among others (point 2), numbers as words and texts word by word (16)."""
 
 import unittest
 
 import helper
-from bellsaway.words import are_unlike_names, counted_name, unused_name
+from bellsaway.errors import NoText
+from bellsaway.words import Words, are_unlike_names, counted_name, is_number, unused_name
 
 
 class UnlikeNames(helper.Case):
@@ -33,6 +34,65 @@ class OtherNames(helper.Case):
     def test_a_gap_is_found(self):
         self.assertEqual(unused_name({"a": True, "c": True}), "b")
         self.assertEqual(unused_name({"b": True}), "a")
+
+
+class Numbers(helper.Case):
+    def test_each_number_is_read_from_its_figures(self):
+        for number in (0, 1, 9, 10, 100, 999999, 10 ** 59, 10 ** 60 - 1, -1, -9, -10, -(10 ** 60) + 1):
+            self.assertIs(is_number(str(number)), True)
+            found = Words(str(number)).take_number()
+            self.assertIs(type(found), int)
+            self.assertEqual(found, number)
+
+    def test_all_else_is_none(self):
+        for word in ("", "-", "-0", "00", "01", "-01", "+1", "--1", "1-", "1.0", " 1", "1 ", "1\n", "a", "1a", "0x1",
+                     "1_0", "\u0661", "\u00b2", "\uff11", "1" * 61, "-" + "1" * 61, "0" * 60):
+            with self.subTest(word=word):
+                self.assertIs(is_number(word), False)
+
+    def test_each_sign_beside_a_figure(self):
+        for code in range(32, 127):
+            self.assertIs(is_number("1" + chr(code)), chr(code).isdigit())
+
+
+class WordByWord(helper.Case):
+    def test_words_are_taken_one_by_one(self):
+        words = Words("by 2 a b")
+        self.assertEqual(words.look(), "by")
+        self.assertIs(words.takes("a"), False)
+        self.assertIs(words.takes("by"), True)
+        self.assertEqual(words.take_some(words.take_number()), ["a", "b"])
+        self.assertIs(words.is_ended(), True)
+        self.assertEqual(words.look(), "")
+        self.assertIs(words.takes("b"), False)
+
+    def test_names_go_on_up_to_what_is_none(self):
+        words = Words("not any 3 a")
+        self.assertEqual(words.take_names(), ["not", "any"])
+        self.assertEqual(words.take_names(), [])
+        self.assertEqual(words.take_number(), 3)
+        self.assertEqual(words.take_names(), ["a"])
+        self.assertEqual(words.take_names(), [])
+
+    def test_some_are_there_or_refused(self):
+        for count in (-1, 4, 10 ** 60):
+            self.assert_refused(NoText, Words("a b c").take_some, count)
+        begun = Words("a b c")
+        begun.take()
+        self.assert_refused(NoText, begun.take_some, 3)
+        self.assertEqual(begun.take_some(2), ["b", "c"])
+        self.assertEqual(Words("a b c").take_some(0), [])
+        self.assertEqual(Words("a b c").take_some(3), ["a", "b", "c"])
+
+    def test_another_word_than_expected(self):
+        self.assert_refused(NoText, Words("a").expect, "b")
+        self.assert_refused(NoText, Words("a").take_number)
+
+    def test_a_word_taken_behind_the_end_is_no_end(self):
+        words = Words("a")
+        words.take()
+        self.assertEqual(words.take(), "")
+        self.assertIs(words.is_ended(), False)
 
 
 if __name__ == "__main__":
