@@ -15,6 +15,15 @@ class Road:
         self.knows = knows
 
 
+def check_roads(roads):
+    if not isinstance(roads, list) or len(roads) == 0:
+        raise NoRoad()
+    if not all([isinstance(road, Road) for road in roads]):
+        raise NoRoad()
+    if len(set([road.name for road in roads])) < len(roads):
+        raise NoRoad()
+
+
 def may_wake(wishes, weight):
     return wishes.wake is not None and weight >= wishes.wake
 

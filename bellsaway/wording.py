@@ -83,8 +83,7 @@ def read_whole(text, part_from):
     except BellError:
         # What could not be made could not be written either.
         raise NoText() from None
-    if not words.is_ended():
-        raise NoText()
+    words.expect_end()
     return found
 
 

@@ -69,11 +69,33 @@ class Words:
         if not self.takes(word):
             raise NoText()
 
+    def expect_end(self):
+        if not self.is_ended():
+            raise NoText()
+
     def take_number(self):
         word = self.take()
         if not is_number(word):
             raise NoText()
         return int(word)
+
+    def take_count(self):
+        count = self.take_number()
+        if count < 0:
+            raise NoText()
+        return count
+
+    def take_name(self):
+        word = self.take()
+        if not is_name(word):
+            raise NoText()
+        return word
+
+    def take_one_of(self, choices):
+        word = self.take()
+        if word not in choices:
+            raise NoText()
+        return word
 
     def take_names(self):
         names = []
@@ -87,3 +109,6 @@ class Words:
         some = self.words[self.at:self.at + count]
         self.at += count
         return some
+
+    def take_rest(self):
+        return self.take_some(len(self.words) - self.at)

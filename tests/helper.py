@@ -4,9 +4,13 @@ A shape is a fit as plain tuples: ("any",), ("kind", names), ("place", names), (
 ("both", shapes), ("either", shapes).
 """
 
+import copy
+import random
+import types
 import unittest
 
 from bellsaway import errors, fits
+from bellsaway.roads import Road
 from bellsaway.ways import Day, Hour, Never, Now
 from bellsaway.wishes import Line, Raised, Wishes
 
@@ -241,3 +245,373 @@ def wishes_text(parts):
     if wake is not None:
         text += " {}".format(wake)
     return text + "".join(" ; " + line_text(line) for line in lines)
+
+
+# A house by a plain reckoning, minute by minute and bell by bell. Roads are tuples (name, slow, knows), wishes plain
+# parts as above, found by their texts; it keeps nothing of what is due but looks at each minute whether a bell rings.
+
+WHATS = {True: "took", False: "not", None: "perhaps"}
+LENGTHS = {"wish": 4, "happen": 5, "take": 4, "later": 5, "back": 3, "go": 2}
+
+
+def plain_usable(wishes, slow, weight, moment):
+    zone, quiet, wake, lines = wishes
+    if quiet is None or (wake is not None and not weight < wake):
+        return True
+    start, end = quiet
+    minute = (moment + slow + zone) % 1440
+    return minute not in range(start, end) if start < end else minute in range(end, start)
+
+
+def plain_moment(way, zone, moment):
+    size = {"now": 1, "hour": 60, "day": 1440}[way[0]]
+    while size > 1 and (moment + zone) % size != way[1]:
+        moment += 1
+    return moment
+
+
+def plain_line_for(wishes, thing):
+    for line in wishes[3]:
+        if fits_plainly(line[0], *thing):
+            return None if line[1][0] == "never" else line
+    return None
+
+
+def is_plain_row(row):
+    if type(row) is not tuple or not row or type(row[0]) is not str or LENGTHS.get(row[0]) != len(row):
+        return False
+    forms = {"wish": "mh?", "happen": "m???", "take": "mhn", "later": "mhnm", "back": "mn", "go": "m"}[row[0]]
+    checks = {
+        "m": lambda part: type(part) is int, "n": lambda part: is_plain_whole(part, 0), "h": is_plain_name,
+        "?": lambda part: True,
+    }
+    return all(checks[form](part) for form, part in zip(forms, row[1:]))
+
+
+class PlainHouse:
+    def __init__(self, roads, pause, texts):
+        self.roads = {name: (slow, knows) for name, slow, knows in roads}
+        self.pause = pause
+        self.texts = texts
+        self.at = None
+        self.wishes = {}
+        self.things = []
+        self.withdrawn = []
+        self.bells = {}
+        self.letter = None
+        self.book = []
+
+    def usable(self, key, name, moment):
+        weight = self.things[key[1]][2] + self.bells[key].raisings
+        return plain_usable(self.wishes[key[0]], self.roads[name][0], weight, moment)
+
+    def rings(self, key, moment):
+        bell = self.bells[key]
+        names = [bell.doubt] if bell.doubt else bell.line[2]
+        return any(self.usable(key, name, moment) for name in names)
+
+    def due(self, key):
+        bell = self.bells[key]
+        if bell.state == "told":
+            return bell.again
+        if bell.state != "waits":
+            return None
+        moment = max(bell.ready, self.at)
+        while not self.rings(key, moment):
+            moment += 1
+        return moment
+
+    def ring(self, hand, number):
+        line = plain_line_for(self.wishes[hand], self.things[number])
+        if line is not None:
+            self.bells[hand, number] = types.SimpleNamespace(
+                state="waits", word="bell", round=0, raisings=0, refusals=0, doubt=None, surely=0, perhaps=0,
+                gathered=line[1][0] != "now", tried=False, again=None, line=line,
+                ready=plain_moment(line[1], self.wishes[hand][0], self.at),
+            )
+
+    def walk(self, last):
+        """Minute by minute up to a letter, or to the last moment; to no end where that is None."""
+        while self.letter is None:
+            early = {key: bell.ready if bell.state == "waits" else bell.again for key, bell in self.bells.items()
+                     if bell.state == "waits" or (bell.state == "told" and bell.again is not None)}
+            now = [key for key in early if early[key] <= self.at]
+            now = [key for key in now if self.bells[key].state == "told" or self.rings(key, self.at)]
+            if now:
+                self.stir(min(now))
+                continue
+            if not early or (last is not None and max(self.at + 1, min(early.values())) > last):
+                return
+            self.at = max(self.at + 1, min(early.values()))
+
+    def stir(self, key):
+        bell = self.bells[key]
+        if bell.state == "waits":
+            self.open(key)
+            return
+        minutes, times, to = bell.line[4]
+        bell.again = None
+        if bell.raisings < times:
+            bell.state, bell.ready, bell.gathered = "waits", self.at, False
+            bell.raisings += 1
+            bell.round += 1
+        elif to is not None:
+            bell.state = "over"
+            if to in self.wishes and (to, key[1]) not in self.bells:
+                self.ring(to, key[1])
+
+    def open(self, key):
+        first = self.bells[key]
+        keys = [key]
+        if first.gathered:
+            keys = [other for other in sorted(self.bells) if other[0] == key[0] and self.goes_with(other, first)]
+        names = first.line[2][first.line[2].index(first.doubt):] if first.doubt else first.line[2]
+        names = [name for name in names if all(self.usable(other, name, self.at) for other in keys)]
+        self.letter = types.SimpleNamespace(keys=keys, names=names, trying=None)
+
+    def goes_with(self, key, first):
+        bell = self.bells[key]
+        if not bell.gathered or bell.state != "waits" or bell.ready > self.at or not self.rings(key, self.at):
+            return False
+        return line_text(bell.line) == line_text(first.line) and bell.doubt == first.doubt
+
+    def attempt(self):
+        keys = self.letter.keys
+        stamps = tuple((key[1], self.bells[key].round) for key in keys)
+        return ("try", self.at, keys[0][0], self.bells[keys[0]].word, self.letter.names[0], stamps)
+
+    def begin(self):
+        self.letter.trying = self.letter.names.pop(0)
+        for key in self.letter.keys:
+            self.bells[key].tried = True
+
+    def end(self, what):
+        letter = self.letter
+        fates = {self.end_of(self.bells[key], what, letter.trying) for key in letter.keys}
+        letter.trying = None
+        assert len(fates) == 1
+        if fates != {"next"}:
+            self.letter = None
+
+    def end_of(self, bell, what, name):
+        slow, knows = self.roads[name]
+        fate = {"took": "told", "not": "next", "perhaps": "waits" if knows else "next" if bell.line[3] else "told"}[what]
+        if what != "perhaps" and bell.doubt == name:
+            bell.perhaps -= 1
+            bell.doubt = None
+        if what == "took":
+            bell.surely += 1
+        if what == "perhaps" and not (knows and bell.doubt):
+            bell.perhaps += 1
+        if what == "perhaps" and knows:
+            bell.doubt = name
+        if fate == "next" and not self.letter.names:
+            fate = "waits"
+            assert bell.doubt is None
+        if fate == "waits":
+            bell.refusals += 1
+            bell.ready = self.at + self.pause * 2 ** (bell.refusals - 1)
+        if fate == "told":
+            assert bell.doubt is None
+            bell.refusals = 0
+            bell.state = "over" if bell.word == "off" else "told"
+            bell.again = self.at + slow + bell.line[4][0] if bell.line[4] and bell.word == "bell" else None
+        return fate
+
+    def refusal(self, row):
+        """The name of the refusal and its field, or None."""
+        if not is_plain_row(row):
+            return ("NoRow", None)
+        if self.at is not None and row[1] < self.at:
+            return ("Backward", self.at)
+        if row[0] == "wish":
+            if type(row[3]) is not str or row[3] not in self.texts:
+                return ("NoText", 0)
+            unknown = [name for line in self.texts[row[3]][3] for name in line[2] if name not in self.roads]
+            return ("NoRoad", unknown[0]) if unknown else None
+        if row[0] == "happen":
+            good = is_plain_name(row[2]) and is_plain_name(row[3]) and is_plain_whole(row[4], 0)
+            return None if good else ("NoHappening", None)
+        if row[0] != "go" and not row[2 if row[0] == "back" else 3] < len(self.things):
+            return ("NoNumber", None)
+        return ("NoTime", None) if row[0] == "later" and not row[4] > row[1] else None
+
+    def do(self, row):
+        self.at = row[1]
+        if row[0] == "wish":
+            self.wishes[row[2]] = self.texts[row[3]]
+            for key, bell in self.bells.items():
+                if key[0] == row[2] and bell.state == "waits" and bell.gathered and not bell.tried:
+                    if bell.ready > self.at:
+                        bell.ready = plain_moment(bell.line[1], self.texts[row[3]][0], self.at)
+        if row[0] == "happen":
+            self.things.append(row[2:])
+            for hand in self.wishes:
+                self.ring(hand, len(self.things) - 1)
+        if row[0] in ("take", "later") and row[2:4] in self.bells:
+            self.change(self.bells[row[2:4]], row)
+        if row[0] == "back" and row[2] not in self.withdrawn:
+            self.withdrawn.append(row[2])
+            for key, bell in self.bells.items():
+                if key[1] == row[2]:
+                    self.change(bell, row)
+
+    def change(self, bell, row):
+        if bell.state in ("taken", "over"):
+            return
+        was_told = bell.state == "told"
+        had_doubt = bell.doubt is not None
+        bell.again = None
+        if row[0] == "take":
+            bell.state = "taken"
+        elif row[0] == "back" and bell.surely + bell.perhaps == 0:
+            bell.state = "over"
+        else:
+            bell.state, bell.gathered, bell.refusals, bell.doubt = "waits", False, 0, None
+            bell.ready = row[-1] if row[0] == "later" else row[1]
+            bell.word = "off" if row[0] == "back" else bell.word
+            bell.round += 1 if row[0] == "back" or was_told or had_doubt else 0
+
+    def follow(self, line):
+        """Whether the line is right behind the book; then it is done and stands in it."""
+        if self.letter is not None and self.letter.trying:
+            ends = [("end", self.at, what) for what in ("took", "not", "perhaps")]
+            if repr(line) not in map(repr, ends):
+                return False
+            self.end(line[2])
+        elif self.letter is None and is_plain_row(line):
+            if self.refusal(line) is not None:
+                return False
+            self.walk(line[1])
+            if self.letter is not None:
+                return False
+            self.do(line)
+        else:
+            self.walk(None)
+            if self.letter is None or repr(line) != repr(self.attempt()):
+                return False
+            self.begin()
+        self.book.append(line)
+        return True
+
+    def carried(self, last, answer):
+        self.walk(last)
+        while self.letter is not None:
+            if not self.letter.trying:
+                attempt = self.attempt()
+                assert self.follow(attempt)
+                what = WHATS[answer(attempt[4], attempt[2], attempt[3], attempt[5], attempt[1])]
+            else:
+                what = "perhaps"
+            assert self.follow(("end", self.at, what))
+            self.walk(last)
+
+    def put(self, row, answer):
+        start = len(self.book)
+        self.carried(row[1], answer)
+        assert self.follow(row)
+        self.carried(row[1], answer)
+        return self.book[start:]
+
+    def go_on(self, answer):
+        start = len(self.book)
+        self.carried(self.at, answer)
+        return self.book[start:]
+
+    def account(self, hand, number):
+        bell = self.bells.get((hand, number))
+        return bell and (bell.state, bell.word, bell.round, bell.raisings, bell.surely, bell.perhaps)
+
+    def waiting(self, hand):
+        keys = [key for key in sorted(self.bells) if key[0] == hand and self.bells[key].state == "waits"]
+        return [(key[1], self.due(key)) for key in keys]
+
+    def next_due(self):
+        return min((self.due(key) for key in self.bells if self.due(key) is not None), default=None)
+
+    def letters(self, hand):
+        found = []
+        for number, line in enumerate(self.book):
+            if line[0] == "end" and line[2] != "not" and self.book[number - 1][2] == hand:
+                moment, word, road, stamps = self.book[number - 1][1:2] + self.book[number - 1][3:]
+                found.append((moment + self.roads[road][0], word, road, stamps, line[2] == "took"))
+        return found
+
+    def plan(self, moment):
+        other = copy.deepcopy(self)
+        start = len(other.book)
+        other.carried(moment, lambda *parts: True)
+        return [line[1:] for line in other.book[start:] if line[0] == "try"]
+
+
+def plain_judge(roads, pause, texts, lines):
+    if type(lines) is not list:
+        return 0
+    house = PlainHouse(roads, pause, texts)
+    return next((number for number, line in enumerate(lines) if not house.follow(line)), None)
+
+
+HANDS = ("ann", "bob", "cy", "dee")
+
+
+class Scene:
+    """Roads, a pause, rows that no house of them refuses, and the wishes' parts by their texts."""
+
+    def __init__(self, chance, count, roads=None):
+        self.roads = roads or [(name, chance.choice((0, 0, 1, 7, 60, 500, 1500)), chance.random() < 0.5)
+                               for name in ("mail", "pager", "by", "sure")[:chance.randint(1, 4)]]
+        self.pause = chance.choice((1, 3, 10, 45))
+        self.texts = {}
+        self.seed = chance.random()
+        self.rows = []
+        self.happened = 0
+        moment = chance.choice((-3000, -7, 0, 600, 10 ** 12))
+        for number in range(count):
+            moment += chance.choice((0, 0, 1, 2, 7, 20, 60, 61, 300, 900))
+            self.rows.append(self.any_row(chance, moment, number))
+
+    def any_row(self, chance, moment, number):
+        word = chance.choice(("wish", "happen", "happen", "happen", "take", "later", "back", "go"))
+        if number < 2 or word == "wish":
+            parts = self.any_wishes(chance)
+            self.texts[wishes_text(parts)] = parts
+            return ("wish", moment, chance.choice(HANDS), wishes_text(parts))
+        if word == "happen" or (self.happened == 0 and word != "go"):
+            self.happened += 1
+            return ("happen", moment, chance.choice(("fire", "flood")), chance.choice(("hall", "yard")),
+                    chance.choice((0, 1, 2, 5)))
+        known = chance.randrange(max(0, self.happened - 4), self.happened) if self.happened else 0
+        return {
+            "take": ("take", moment, chance.choice(HANDS), known),
+            "later": ("later", moment, chance.choice(HANDS), known, moment + chance.choice((1, 5, 60, 700))),
+            "back": ("back", moment, known),
+            "go": ("go", moment),
+        }[word]
+
+    def any_wishes(self, chance):
+        quiet = chance.choice((None, None, (1320, 420), (0, 600), (300, 1200), (1, 0)))
+        wake = None if quiet is None else chance.choice((None, 0, 2, 3, 6))
+        zone = chance.choice((0, 0, -600, -61, 1, 330, 1439))
+        return (zone, quiet, wake, [self.any_line(chance) for number in range(chance.choice((1, 1, 2, 3)))])
+
+    def any_line(self, chance):
+        shape = chance.choice((("any",), ("any",), ("kind", ("fire",)), ("least", 2), ("not", ("place", ("hall",)))))
+        if chance.random() < 0.1:
+            return (shape, ("never",), [], False, None)
+        way = chance.choice((("now",), ("now",), ("hour", 5), ("hour", 30), ("day", 480)))
+        names = [road[0] for road in self.roads]
+        roads = chance.sample(names, chance.randint(1, len(names)))
+        to = chance.choice((None,) + HANDS + ("none",))
+        raised = chance.choice((None, None, (chance.choice((1, 10, 90)), chance.choice((0, 1, 3)), to)))
+        return (shape, way, roads, chance.random() < 0.5, raised)
+
+    def answer(self, road, hand, word, stamps, moment):
+        """The same for the same try, so that a house that goes on hears what the first one would have heard."""
+        chance = random.Random(repr((self.seed, road, hand, word, stamps, moment)))
+        return chance.choice((True, True, False, None))
+
+    def made_roads(self):
+        return [Road(*road) for road in self.roads]
+
+    def plain(self):
+        return PlainHouse(self.roads, self.pause, self.texts)

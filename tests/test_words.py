@@ -88,6 +88,43 @@ class WordByWord(helper.Case):
         self.assert_refused(NoText, Words("a").expect, "b")
         self.assert_refused(NoText, Words("a").take_number)
 
+    def test_the_end(self):
+        words = Words("a")
+        self.assert_refused(NoText, words.expect_end)
+        words.take()
+        self.assertIsNone(words.expect_end())
+        words.take()
+        self.assert_refused(NoText, words.expect_end)
+
+    def test_counts(self):
+        for number in (0, 1, 10 ** 60 - 1):
+            self.assertEqual(Words(str(number)).take_count(), number)
+        for word in ("-1", "-0", "", "01", "a", "-10"):
+            self.assert_refused(NoText, Words(word).take_count)
+
+    def test_one_name(self):
+        words = Words("ann not b")
+        self.assertEqual([words.take_name(), words.take_name(), words.take_name()], ["ann", "not", "b"])
+        self.assert_refused(NoText, words.take_name)
+        for word in helper.NO_NAMES:
+            if " " not in word:
+                self.assert_refused(NoText, Words(word).take_name)
+
+    def test_one_of_some(self):
+        self.assertEqual(Words("b a").take_one_of(("a", "b")), "b")
+        self.assertEqual(Words("b a").take_one_of({"b": 1}), "b")
+        for text in ("", "c", "B", "ab", "b\n"):
+            self.assert_refused(NoText, Words(text).take_one_of, ("a", "b"))
+
+    def test_the_rest(self):
+        words = Words("a b  c")
+        words.take()
+        self.assertEqual(words.take_rest(), ["b", "", "c"])
+        self.assertIs(words.is_ended(), True)
+        self.assertEqual(words.take_rest(), [])
+        words.take()
+        self.assert_refused(NoText, words.take_rest)
+
     def test_a_word_taken_behind_the_end_is_no_end(self):
         words = Words("a")
         words.take()
