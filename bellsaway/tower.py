@@ -39,10 +39,8 @@ class Tower:
         other.wishes = dict(self.wishes)
         other.happenings = list(self.happenings)
         other.withdrawn = dict(self.withdrawn)
-        other.bells = dict(self.bells)
+        other.bells = dict([(key, bell.twin()) for key, bell in self.bells.items()])
         other.dues = dict(self.dues)
-        for key in self.dues:
-            other.bells[key] = self.bells[key].twin()
         if self.letter is not None:
             other.letter = self.letter.twin([other.bells[key_of(bell)] for bell in self.letter.bells])
         return other

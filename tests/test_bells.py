@@ -107,6 +107,7 @@ class Ends(helper.Case):
             ("took", KNOWING, None, 1, 0, None), ("not", KNOWING, None, 0, 0, None),
             ("perhaps", KNOWING, None, 0, 1, "b"), ("took", KNOWING, "b", 1, -1, None),
             ("not", KNOWING, "b", 0, -1, None), ("perhaps", KNOWING, "b", 0, 0, "b"),
+            ("took", PLAIN, "b", 1, 0, "b"), ("not", PLAIN, "b", 0, 0, "b"), ("perhaps", PLAIN, "b", 0, 1, "b"),
         ):
             bell = bell_of()
             bell.doubt = doubt

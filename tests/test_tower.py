@@ -498,6 +498,17 @@ class AsReckoned(helper.Case):
                 self.assertEqual((tower.dues, tower.time, len(tower.happenings)),
                                  (dues, row[1], len([line for line in scene.rows[:number + 1] if line[0] == "happen"])))
 
+    def test_rows_done_by_a_twin(self):
+        tower = Tower([Road("mail")], 10)
+        for row in (("wish", 0, "ann", "zone 0 ; any : now by 1 mail"), ("happen", 0, "fire", "hall", 0),
+                    ("happen", 0, "fire", "hall", 0), ("back", 1, 0)):
+            put(tower, row, took if row[0] == "happen" else lambda *parts: False)
+        other = tower.twin()
+        self.assertEqual(facts(tower.bells["ann", 0])[:3], ("waits", "off", 1))
+        self.assertEqual(put(other, ("back", 2, 0), took), [("back", 2, 0)])
+        self.assertEqual(put(other, ("back", 2, 1), took)[1], ("try", 2, "ann", "off", "mail", ((1, 1),)))
+        self.assertEqual(put(tower, ("back", 2, 1), took)[1], ("try", 2, "ann", "off", "mail", ((1, 1),)))
+
 
 if __name__ == "__main__":
     unittest.main()
