@@ -40,7 +40,7 @@ class House:
             raise Fallen("the house has fallen")
 
     def do_due(self, moment):
-        self.end_letter()
+        # The tower stays where it is while a letter is open, so one that isn't ended yet goes ahead of all else.
         self.tower.go_up_to(moment)
         while self.tower.letter is not None:
             self.end_letter()

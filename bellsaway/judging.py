@@ -24,7 +24,7 @@ def first_wrong(tower, lines):
 def follows(tower, line):
     if tower.is_trying():
         return follows_as_end(tower, line)
-    if tower.letter is None and is_row(line):
+    if is_row(line):
         return follows_as_row(tower, line)
     # Where no letter is open, a try may come however late, but for what goes out first as time goes on.
     tower.go_up_to(None)
@@ -45,6 +45,7 @@ def follows_as_row(tower, line):
     except BellError:
         return False
     tower.go_up_to(line[1])
+    # One that isn't ended yet, or one that goes out by the row's moment.
     if tower.letter is not None:
         return False
     tower.do_row(line, borne)

@@ -55,6 +55,16 @@ def changed_lines(line):
     return [thing for thing in lines if repr(thing) != repr(line)]
 
 
+class Alike:
+    """Told to be equal to all things."""
+
+    def __eq__(self, other):
+        return True
+
+    def __hash__(self):
+        return hash("go")
+
+
 class Refused(helper.Case):
     def test_roads_then_the_pause(self):
         for bad in ([], (), [ROADS[0], ROADS[0]], ["mail"], tuple(ROADS)) + helper.THINGS:
@@ -107,6 +117,16 @@ class WrittenOut(helper.Case):
             (0, list(RIGHT[0])), (5, ["end", 1, "took"]), (16, ("take", 16, "ann", False)),
         ):
             self.assertEqual(judge(ROADS, 10, RIGHT[:number] + [line] + RIGHT[number + 1:]), number)
+
+    def test_what_is_equal_to_all_things_is_taken_for_none_of_them(self):
+        for number, line in enumerate(RIGHT):
+            for place in range(len(line)):
+                bad = line[:place] + (Alike(),) + line[place + 1:]
+                self.assertEqual(judge(ROADS, 10, RIGHT[:number] + [bad]), number)
+            self.assertEqual(judge(ROADS, 10, RIGHT[:number] + [Alike()]), number)
+        self.assertEqual(judge(ROADS, 10, RIGHT[:2] + [RIGHT[2][:5] + ((Alike(),),)]), 2)
+        self.assertEqual(judge(ROADS, 10, RIGHT[:2] + [RIGHT[2][:5] + (((0, Alike()),),)]), 2)
+        self.assertEqual(judge(ROADS, 10, Alike()), 0)
 
     def test_each_end_is_right(self):
         for what in ("took", "not", "perhaps"):
